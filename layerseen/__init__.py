@@ -1,0 +1,1 @@
+"""Layerseen: which order of handlers a program shows."""

@@ -1,0 +1,124 @@
+"""The examples of the document, as they stand there, one after another."""
+
+import inspect
+import unittest
+
+from layerseen.errors import LayerError
+
+EXAMPLES = """
+>>> from layerseen.names import fresh, is_name, is_word
+>>> [is_name("x"), is_name("put"), is_word("put"), is_name("abcdefghi"), is_name("x1"), is_word("")]
+[True, False, True, False, False, False]
+>>> names = fresh("a", "c")
+>>> [next(names) for turn in range(3)]
+['b', 'd', 'e']
+>>> list(fresh("a", "if"))
+raises BadName('if')
+>>> from layerseen.programs import Catch, Choose, Copy, Deed, Fail, If, Leave, Program, Put, Say, Stop
+>>> try_put = Program(Catch("f", Program(Put("x", 1), Fail("f"))), Copy("y", "x"))
+>>> str(try_put)
+'catch f ( put x 1 ; fail f ) else ( skip ) ; copy y x'
+>>> [len(try_put), try_put.size, try_put.depth, try_put.cells, try_put.failures, Fail("f") in try_put, try_put.chooses]
+[2, 4, 1, ('x', 'y'), ('f',), True, False]
+>>> [list(try_put.walk()), str(try_put.deed_at((0, 0, 1))), str(try_put.without((0, 0, 1)))]
+[[(0,), (0, 0, 0), (0, 0, 1), (1,)], 'fail f', 'catch f ( put x 1 ) else ( skip ) ; copy y x']
+>>> [str(Program(Put("x", 1)) | Leave()), str((Program(Stop()) * 2)[1:]), str(try_put[::-1][:1]), try_put.least_sizes() == {"x": 2, "y": 2}]
+['choose ( put x 1 ) or ( none )', 'stop', 'copy y x', True]
+>>> [Program.read("if x = 3 ( skip ) else ( say l stop )") == Program(If("x", 3, Program(), Program(Say("l", "stop")))), str(Program()), Deed.read("put x 0") == Put("x", 0)]
+[True, 'skip', True]
+>>> [str(try_put.renamed({"x": "y", "y": "x", "z": "w"})), bool(Program())]
+['catch f ( put y 1 ; fail f ) else ( skip ) ; copy x y', False]
+>>> Program.read("put x 1 ;")
+raises BadText(0, 4)
+>>> Program.read("put x 4 ; stop")
+raises BadText(0, 2)
+>>> Put("if", 9)
+raises BadName('if')
+>>> try_put.renamed({"x": "y"})
+raises BadProgram('names')
+>>> try_put.deed_at((0, 1, 0))
+raises NoPlace((0, 1, 0))
+>>> from layerseen.handlers import Cell, Choice, Failure, Handler, Keeping, Log, Named, Turning
+>>> from layerseen.stacks import Stack
+>>> x, l, f, c = Cell("x"), Log("l"), Failure("f"), Choice()
+>>> [x.meets(f), x.meets(l), f.meets(Failure("g")), f.meets(c), isinstance(f, Named), isinstance(c, Named), Handler.read("cell x 2") == x]
+[True, False, False, True, True, False, True]
+>>> stack = Stack(x, f, c, l)
+>>> [str(stack), stack.names, stack.shared, stack.own, stack.gathering, stack.taken_back("f"), stack.kept("f")]
+['cell x 2, failure f, choice, log l', ('x', 'f', 'choice', 'l'), ('x',), ('l',), ('f',), ('l',), ('x',)]
+>>> stack.pairs
+(('choice', 'l'), ('f', 'choice'), ('f', 'l'), ('x', 'choice'), ('x', 'f'))
+>>> [str(stack // "f"), str(stack % "f"), str(~stack), str(stack - "f"), str(stack.exchanged(0)), str(stack.moved("l", 0))]
+['cell x 2', 'choice, log l', 'log l, choice, failure f, cell x 2', 'cell x 2, choice, log l', 'failure f, cell x 2, choice, log l', 'log l, cell x 2, failure f, choice']
+>>> [str(Cell("y", 3) + stack[2:]), str(stack[:1] + c), Stack(x, c) <= stack, Stack(c, x) <= stack, str(Stack())]
+['cell y 3, choice, log l', 'cell x 2, choice', True, False, '-']
+>>> Stack.read("cell x 2, choice, log")
+raises BadText(0, 5)
+>>> Stack.read("choice choice")
+raises BadText(0, 1)
+>>> Stack(x, Log("x"))
+raises Taken('x')
+>>> stack.check(Program.read("put x 2"))
+raises Unfit('x')
+>>> from layerseen.ends import End, ends_text
+>>> from layerseen.player import ends, trace
+>>> program = Program.read("choose ( put x 1 ) or ( skip ) ; say l a")
+>>> own, shared = Stack.read("choice, cell x 2, log l"), Stack.read("cell x 2, log l, choice")
+>>> [ends_text(ends(program, own)), ends_text(ends(program, shared))]
+['done ; x 1 ; l a / done ; x 0 ; l a', 'done ; x 1 ; l a / done ; x 1 ; l a a']
+>>> ends(program, own)[0] == End(None, {"x": 1}, {"l": ("a",)})
+True
+>>> risky = Program.read("choose ( put x 1 ) or ( put x 2 ; fail f ) ; copy y x")
+>>> [ends_text(ends(risky, Stack.read("cell y 3, " + row))) for row in ["choice, failure f, cell x 3", "failure f, choice, cell x 3", "cell x 3, failure f, choice"]]
+['done ; x 1 ; y 1 / failed f ; x 0 ; y 1', 'failed f ; x 0 ; y 1', 'failed f ; x 2 ; y 1']
+>>> gather = Program.read("catch f ( choose ( put x 1 ) or ( put x 2 ) ) else ( skip ) ; copy y x")
+>>> [ends_text(ends(gather, Stack.read(row + ", choice"))) for row in ["cell x 3, cell y 3, failure f"]]
+['done ; x 2 ; y 2 / done ; x 2 ; y 2']
+>>> [str(deed) for deed in trace(gather, Stack.read("cell x 3, cell y 3, failure f, choice"))]
+['put x 1', 'put x 2', 'copy y x', 'copy y x']
+>>> ends(Program.read("put x 2"), Stack.read("cell x 2"))
+raises Unfit('x')
+>>> wait = Program.read("catch g ( catch f ( choose ( fail g ) or ( put x 1 ) ) else ( skip ) ; say l b ) else ( copy y x )")
+>>> ends_text(ends(wait, Stack.read("cell x 2, cell y 2, failure f, choice, failure g, log l")))
+'done ; x 1 ; y 1 ; l - / done ; x 1 ; y 1 ; l b'
+"""
+
+
+def told(error):
+    """An error as the document writes it."""
+    fields = [repr(getattr(error, name)) for name in list(inspect.signature(type(error)).parameters)]
+    return f"raises {type(error).__name__}({', '.join(fields)})"
+
+
+def answer(line, names):
+    """What a line gives, as the document writes it; nothing for an import or an assignment."""
+    try:
+        code = compile(line, "example", "eval")
+    except SyntaxError:
+        exec(line, names)
+        return None
+    try:
+        return repr(eval(code, names))
+    except LayerError as error:
+        return told(error)
+
+
+def examples():
+    """The pairs of a line and what it gives."""
+    found = []
+    for row in EXAMPLES.strip().split("\n"):
+        if row.startswith(">>> "):
+            found.append((row[4:], None))
+        else:
+            found[-1] = (found[-1][0], row)
+    return found
+
+
+class ExamplesTest(unittest.TestCase):
+    def test_all_in_order(self):
+        names = {}
+        for line, expected in examples():
+            self.assertEqual(answer(line, names), expected, line)
+
+    def test_there_are_as_many_as_in_the_document(self):
+        self.assertEqual(len(examples()), 45)
