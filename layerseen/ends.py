@@ -30,7 +30,7 @@ def _texts_of(end):
     head = "done" if end.failed is None else f"failed {end.failed}"
     cells = [f"{name} {end.cells[name]}" for name in sorted(end.cells, key=str)]
     logs = [f"{name} {_log_text(end.logs[name])}" for name in sorted(end.logs, key=str)]
-    return [head] + cells + logs
+    return [head, *cells, *logs]
 
 
 def _log_text(words):

@@ -27,20 +27,20 @@ def whole_deed(text):
     return tree
 
 
-def program_tree(words, opened):
-    """The tuple for the next deeds, with so many parentheses open around them."""
+def program_tree(words, depth):
+    """The tuple for the next deeds, within so many blocks."""
     if words.sees("skip"):
         words.take("skip")
         return ()
-    row = [deed_tree(words, opened)]
+    row = [deed_tree(words, depth)]
     while words.sees(";"):
         words.take(";")
-        row.append(deed_tree(words, opened))
+        row.append(deed_tree(words, depth))
     return tuple(row)
 
 
-def deed_tree(words, opened):
-    """The tuple for the next deed, with so many parentheses open around it."""
+def deed_tree(words, depth):
+    """The tuple for the next deed, within so many blocks."""
     known = list(SHAPES)
     word = words.take(*known)
     tree = [word]
@@ -52,16 +52,16 @@ def deed_tree(words, opened):
         elif shape == "word":
             tree.append(words.take_word())
         elif shape == "block":
-            tree.append(_block_tree(words, opened))
+            tree.append(_block_tree(words, depth))
         else:
             words.take(shape)
     return tuple(tree)
 
 
-def _block_tree(words, opened):
-    if opened == MOST_NESTED:
+def _block_tree(words, depth):
+    if depth == MOST_NESTED:
         words.refuse()
     words.take("(")
-    block = program_tree(words, opened + 1)
+    block = program_tree(words, depth + 1)
     words.take(")")
     return block

@@ -57,7 +57,10 @@ class Pen:
 
 
 class Run:
-    """A run of a program under a stack that takes it."""
+    """A run of a program under a stack that takes it.
+
+    The last one of its Pens is the innermost one, in which the branch runs.
+    """
 
     def __init__(self, program, stack):
         self.stack = stack
@@ -83,10 +86,11 @@ class Run:
 
     def change(self, name, value):
         """Gives a thing another value."""
+        branch = self.branch
         if name in self.shared:
             self.shared = {**self.shared, name: value}
         else:
-            self.branch.own = {**self.branch.own, name: value}
+            branch.own = {**branch.own, name: value}
 
     def gather(self, program, guard, follow):
         """Goes on with a program in a Pen of its own; follow is the Rest for each of its results."""
@@ -193,9 +197,10 @@ class Run:
             self.gather(pen.guard.other, None, pen.follow)
 
     def _take_back(self, name, before):
+        branch = self.branch
         taken = self.stack.taken_back(name)
         self.shared = _mixed(self.shared, before, taken)
-        self.branch.own = _mixed(self.branch.own, before, taken)
+        branch.own = _mixed(branch.own, before, taken)
 
     def _is_cell(self, name):
         return isinstance(self.stack.handler(name), Cell)
@@ -229,7 +234,8 @@ def _say(run, deed):
 
 
 def _fail(run, deed):
-    run.branch.failed = deed.name
+    branch = run.branch
+    branch.failed = deed.name
 
 
 def _leave(run, deed):
@@ -242,16 +248,18 @@ def _stop(run, deed):
 
 
 def _if(run, deed):
+    branch = run.branch
     block = deed.block if run.things()[deed.cell] == deed.value else deed.other
-    run.branch.rest = Rest(block, None, run.branch.rest)
+    branch.rest = Rest(block, None, branch.rest)
 
 
 def _catch(run, deed):
+    branch = run.branch
     guard = Guard(deed.name, deed.other, run.things())
     if deed.name in run.stack.gathering:
-        run.gather(deed.block, guard, run.branch.rest)
+        run.gather(deed.block, guard, branch.rest)
     else:
-        run.branch.rest = Rest(deed.block, guard, run.branch.rest)
+        branch.rest = Rest(deed.block, guard, branch.rest)
 
 
 def _choose(run, deed):
