@@ -264,6 +264,8 @@ class SignsTest(LayerCase):
         for count in [31, 32, 60, 61, 62, 10 ** 59]:
             self.refused(TooMany("deeds", 60), lambda: one * count)
         self.assertEqual((Program(Stop()) * 60).size, 60)
+        for count in [61, 62, 10 ** 59]:
+            self.refused(TooMany("deeds", 60), lambda: Program(Stop()) * count)
         for count in [0, 1, 7, 60, 61, 10 ** 59]:
             self.assertEqual(Program() * count, Program())
         self.assertEqual(many(60) * 0, Program())
