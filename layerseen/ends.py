@@ -1,9 +1,9 @@
 """Ends: what is seen of the branches of a run."""
 
-from layerseen.values import copied
+from layerseen.values import Paper, copied
 
 
-class End:
+class End(Paper):
     """What is seen of a branch that ended: its failure or None, the cells and the logs."""
 
     def __init__(self, failed, cells, logs):
@@ -19,6 +19,12 @@ class End:
 
     def __str__(self):
         return " ; ".join(_texts_of(self))
+
+    def contents(self):
+        return (self.failed, self.cells, self.logs)
+
+    def anew(self):
+        return End(self.failed, self.cells, self.logs)
 
 
 def ends_text(ends):

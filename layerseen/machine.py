@@ -1,15 +1,13 @@
-"""One run of a program under a stack, deed by deed.
+"""One run of a program under a stack, deed by deed, from one event to the next one.
 
 A branch goes on with a Rest. The block of a catch of an outer failure is run in a Pen of its own; the
-outermost Pen is that of the whole program. Dicts of things are never changed but replaced, so that branches
-and guards can share them.
+outermost Pen is that of the whole program, and events come up in it alone. Dicts of things are never changed
+but replaced, so that branches, guards and Moments can share them.
 """
 
-from layerseen.ends import End
 from layerseen.errors import TooMany
 from layerseen.handlers import Cell
 from layerseen.programs import Say, Simple
-from layerseen.values import ascending
 
 MOST_ENDS = 64
 MOST_STEPS = 4000
@@ -56,33 +54,51 @@ class Pen:
         self.results = []
 
 
-class Run:
-    """A run of a program under a stack that takes it.
+class Moment:
+    """What a run goes on from behind an event: the shared things, the branches that wait, what was counted."""
 
-    The last one of its Pens is the innermost one, in which the branch runs.
+    def __init__(self, shared, waiting, steps, counted):
+        self.shared = shared
+        self.waiting = tuple(waiting)
+        self.steps = steps
+        self.counted = counted
+
+
+class Run:
+    """A run under a stack from a Moment on; the Moment stays as it is.
+
+    The last one of its Pens is the innermost one, in which the branch runs. The word tells the event that has
+    come up: ended, failed, broke, stopped or over; failed is the failure of a failed or a broke.
     """
 
-    def __init__(self, program, stack):
+    def __init__(self, stack, moment):
         self.stack = stack
-        self.start = {name: _first_value(stack.handler(name)) for name in stack.shared + stack.own}
-        self.shared = {name: self.start[name] for name in stack.shared}
-        own = {name: self.start[name] for name in stack.own}
-        self.branch = Branch(own, Rest(program, None, None), None)
+        self.shared = moment.shared
+        self.branch = None
         self.pens = [Pen(None, None)]
-        self.ends = []
+        self.pens[0].waiting.extend(moment.waiting)
+        self.steps = moment.steps
+        self.counted = moment.counted
         self.trail = []
-        self.steps = 0
-        self.counted = 0
-        self.done = False
+        self.word = None
+        self.failed = None
 
     def play(self):
-        """Runs all that is left to run."""
-        while not self.done:
+        """Runs until the next event comes up, and returns its word."""
+        self.branch = None
+        self.word = None
+        while self.word is None:
             self._move()
+        return self.word
+
+    def pause(self):
+        """The Moment at which the run is."""
+        return Moment(self.shared, self.pens[0].waiting, self.steps, self.counted)
 
     def things(self):
-        """All things as they are now."""
-        return {**self.shared, **self.branch.own}
+        """All things as they are now, without a branch the shared ones."""
+        own = {} if self.branch is None else self.branch.own
+        return {**self.shared, **own}
 
     def change(self, name, value):
         """Gives a thing another value."""
@@ -97,15 +113,12 @@ class Run:
         self.pens.append(Pen(guard, follow))
         self.branch = Branch(self.branch.own, Rest(program, None, None), None)
 
-    def give_end(self, failed):
-        """Gives an end of the program."""
-        self._count()
-        if failed is not None:
-            self._take_back(failed, self.start)
-        things = self.things()
-        cells = {name: things[name] for name in ascending(things) if self._is_cell(name)}
-        logs = {name: things[name] for name in ascending(things) if not self._is_cell(name)}
-        self.ends.append(End(failed, cells, logs))
+    def tell(self, word, failed):
+        """An event comes up; over alone is not counted."""
+        if word != "over":
+            self._count()
+        self.word = word
+        self.failed = failed
 
     def _move(self):
         branch = self.branch
@@ -149,20 +162,24 @@ class Run:
         if len(self.pens) > 1:
             self._count()
             self.pens[-1].results.append(branch)
+            self.branch = None
+        elif branch.failed is None:
+            self.tell("ended", None)
         else:
-            self.give_end(branch.failed)
-        self.branch = None
+            self.tell("failed", branch.failed)
 
     def _next_branch(self):
         pen = self.pens[-1]
         if pen.waiting:
-            self.branch = pen.waiting.pop()
+            # A Moment may keep the branch that waited: it is not changed, a new one goes on.
+            waited = pen.waiting.pop()
+            self.branch = Branch(waited.own, waited.rest, waited.failed)
         elif len(self.pens) > 1:
             self.pens.pop()
             following = [Branch(result.own, pen.follow, result.failed) for result in pen.results[::-1]]
             self.pens[-1].waiting.extend(following)
         else:
-            self.done = True
+            self.tell("over", None)
 
     def _go_on_failed(self, branch):
         if branch.failed in self.stack.gathering:
@@ -188,9 +205,7 @@ class Run:
         while self.pens and not _guards(self.pens[-1], name):
             self.pens.pop()
         if not self.pens:
-            self.ends = []
-            self.give_end(name)
-            self.done = True
+            self.tell("broke", name)
         else:
             pen = self.pens.pop()
             self._take_back(name, pen.guard.before)
@@ -202,12 +217,22 @@ class Run:
         self.shared = _mixed(self.shared, before, taken)
         branch.own = _mixed(branch.own, before, taken)
 
-    def _is_cell(self, name):
-        return isinstance(self.stack.handler(name), Cell)
+
+def first_moment(program, stack, start):
+    """The Moment at the start of a program, with these values of cells; the other ones are 0."""
+    own = {name: _first_value(stack.handler(name), start) for name in stack.own}
+    shared = {name: _first_value(stack.handler(name), start) for name in stack.shared}
+    return Moment(shared, [Branch(own, Rest(program, None, None), None)], 0, 0)
 
 
-def _first_value(handler):
-    return 0 if isinstance(handler, Cell) else ()
+def things_back(stack, failed, things):
+    """The things where a failure that nothing catches takes back all that it can."""
+    taken = stack.taken_back(failed)
+    return {name: _first_value(stack.handler(name), {}) if name in taken else things[name] for name in things}
+
+
+def _first_value(handler, start):
+    return start.get(handler.name, 0) if isinstance(handler, Cell) else ()
 
 
 def _guards(place, name):
@@ -243,8 +268,7 @@ def _leave(run, deed):
 
 
 def _stop(run, deed):
-    run.give_end(None)
-    run.done = True
+    run.tell("stopped", None)
 
 
 def _if(run, deed):

@@ -24,6 +24,11 @@ def is_name(value):
     return is_word(value) and value not in KEPT_WORDS
 
 
+def is_handler_name(value):
+    """Whether any value is a name that a handler can have; that of the choice is no name otherwise."""
+    return is_name(value) or isinstance(value, str) and value == "choice"
+
+
 def check_name(value):
     """Refuses any value that is no name."""
     if not is_name(value):

@@ -1,7 +1,7 @@
 """The words of a text, read one after another."""
 
 from layerseen.errors import BadText
-from layerseen.names import is_name, is_word
+from layerseen.names import is_handler_name, is_name, is_word
 
 
 class Words:
@@ -45,6 +45,10 @@ class Words:
     def take_name(self):
         """Goes past a name and returns it."""
         return self._take_if(is_name)
+
+    def take_handler_name(self):
+        """Goes past a name or the choice and returns it."""
+        return self._take_if(is_handler_name)
 
     def take_word(self):
         """Goes past a word for a log and returns it."""

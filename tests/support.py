@@ -1,12 +1,16 @@
 """What the tests share: values of all kinds, and checks that kinds count everywhere."""
 
+import inspect
+import itertools
 import unittest
 
+from layerseen.compared import Exchanges, Parting
 from layerseen.ends import End
 from layerseen.errors import BadName, LayerError, NoChange
 from layerseen.handlers import Cell, Choice, Failure, Log
 from layerseen.programs import Catch, Choose, Leave, Program, Put, Stop
 from layerseen.stacks import Stack
+from layerseen.wishes import Near, Ring, Wish, Wishes
 
 PLAIN_VALUES = [
     None, True, False, 0, 1, 2, 3, 4, 5, -1, -2, 60, 61, 10 ** 59, -(10 ** 59),
@@ -20,7 +24,8 @@ def package_values():
     return [
         Program(), Program(Put("x", 1)), Program(Choose(Program(Stop()))), Put("x", 1), Leave(), Catch("f", Program()),
         Cell("x"), Cell("x", 3), Log("l"), Failure("f"), Choice(), Stack(), Stack(Cell("x")),
-        End(None, {}, {}), BadName("x"), NoChange(),
+        End(None, {}, {}), BadName("x"), NoChange(), Exchanges((0,)), Parting(Program(), (), ()), Wish("x", "f"),
+        Wishes(), Wishes(Wish("x", "f")), Ring(("f", "x")), Near(Stack(), 0, {(): 0}),
     ]
 
 
@@ -44,6 +49,26 @@ def same(one, other):
     return one == other
 
 
+def orders(*handlers):
+    """All stacks of these handlers."""
+    return [Stack(*row) for row in itertools.permutations(handlers)]
+
+
+def orders_of_pairs(stack):
+    """By the pairs of names of handlers that interact, the lesser first, whether the lesser one stands outside."""
+    handlers = sorted(stack, key=lambda handler: handler.name)
+    return {
+        (one.name, other.name): stack.names.index(one.name) < stack.names.index(other.name)
+        for one, other in itertools.combinations(handlers, 2) if one.meets(other)
+    }
+
+
+def apart(one, other):
+    """In how many pairs of handlers that interact two orders differ."""
+    pairs, others = orders_of_pairs(one), orders_of_pairs(other)
+    return len([pair for pair in pairs if pairs[pair] != others[pair]])
+
+
 class LayerCase(unittest.TestCase):
     """A test case with checks of the package's errors and of kinds."""
 
@@ -60,6 +85,33 @@ class LayerCase(unittest.TestCase):
 
     def same(self, one, other):
         self.assertTrue(same(one, other), f"{one!r} is not {other!r}")
+
+    def is_paper(self, made, truth=True):
+        """A class keeps copies of any values under the names of its parameters, and is equal by these alone."""
+        names = list(inspect.signature(made).parameters)
+        for name in ["__init__", "__eq__"]:
+            self.assertIn(name, vars(made))
+        for at, name in enumerate(names):
+            for value in values():
+                row = [f"a{at}" for at in range(len(names))]
+                row[at] = value
+                for paper in [made(*row), made(**dict(zip(names, row))), made(*row[:1], **dict(zip(names[1:], row[1:])))]:
+                    self.same([getattr(paper, part) for part in names], row)
+                    self.assertIs(bool(paper), truth)
+                row[at] = [{"here": value}]
+                self.assertTrue(made(*row) == made(*row))
+                self.assertFalse(made(*row) != made(*row))
+                row[at] = (7, value)
+                self.assertFalse(made(*row) == made(*[*row[:at], (8, value), *row[at + 1:]]))
+            inner, end = {"x": [1]}, End(None, {"x": 1}, {"l": ()})
+            row = [0] * len(names)
+            row[at] = [(inner,), {"k": end}]
+            paper = made(*row)
+            row[at].append(5)
+            inner["x"].append(2)
+            end.cells["x"] = 5
+            self.same(getattr(paper, name), [({"x": [1]},), {"k": End(None, {"x": 1}, {"l": ()})}])
+        self.only_equal_to_itself(lambda: made(*range(len(names))))
 
     def only_equal_to_itself(self, make):
         """Two makes are equal, and equal to no value of another kind."""

@@ -81,6 +81,46 @@ raises Unfit('x')
 >>> wait = Program.read("catch g ( catch f ( choose ( fail g ) or ( put x 1 ) ) else ( skip ) ; say l b ) else ( copy y x )")
 >>> ends_text(ends(wait, Stack.read("cell x 2, cell y 2, failure f, choice, failure g, log l")))
 'done ; x 1 ; y 1 ; l - / done ; x 1 ; y 1 ; l b'
+>>> from layerseen.compared import Exchanges, Parting, compare, crossed, led, parting_of, partings, shows_exchanges, shows_parting, way
+>>> one, other = Stack(x, l, f), Stack(l, x, f)
+>>> [compare(one, other) == Exchanges((0,)), crossed(one, other), [str(step) for step in way(one, other)], shows_exchanges(one, other, Exchanges((0, 0, 0)))]
+[True, (('x', 'l'),), ['cell x 2, log l, failure f', 'log l, cell x 2, failure f'], True]
+>>> one, other = Stack(x, f, c), Stack(f, c, x)
+>>> found = compare(one, other)
+>>> [bool(found), str(found.program), ends_text(found.ends), ends_text(found.others), crossed(one, other)]
+[False, 'choose ( put x 1 ) or ( skip )', 'done ; x 1 / done ; x 1', 'done ; x 1 / done ; x 0', (('x', 'choice'), ('x', 'f'))]
+>>> [shows_parting(one, other, found), shows_parting(other, one, found), str(led(one, [0, 1])), str(parting_of(l, c))]
+[True, False, 'failure f, choice, cell x 2', 'choose ( say l a ) or ( skip )']
+>>> [(names, str(program)) for names, program in partings(Stack(x, l, f))]
+[(('f', 'l'), 'say l a ; fail f'), (('f', 'x'), 'put x 1 ; fail f')]
+>>> compare(one, Stack(x, f))
+raises Unlike('handlers')
+>>> parting_of(x, l)
+raises Unlike('pair')
+>>> from layerseen.classes import beside, class_at, class_index, class_way, classes, layers, many_classes, many_in, normal, turned
+>>> from layerseen.handlers import Cell, Choice, Failure
+>>> from layerseen.stacks import Stack
+>>> four = Stack(Cell("y"), Cell("x"), Failure("f"), Choice())
+>>> [layers(four), str(normal(four)), many_in(four), class_index(four), many_classes(2, 1, True), many_classes(2, 2, False)]
+[(('x', 'y'), ('f',), ('choice',)), 'cell x 2, cell y 2, failure f, choice', 2, 13, 18, 14]
+>>> [layers(one) for one in classes(four, 15)]
+[(('y',), ('choice',), ('x',), ('f',)), (('y',), ('f',), ('choice',), ('x',)), (('y',), ('f',), ('x',), ('choice',))]
+>>> [turned(class_at(four, 0), class_at(four, 3)), len([one for one in beside(four)]), len(class_way(class_at(four, 0), class_at(four, 3)))]
+[(('f', 'y'),), 3, 2]
+>>> class_at(four, 18)
+raises BadNumber(18)
+>>> from layerseen.wishes import Near, Ring, Wish, Wishes, nearest, shows_near, shows_ring, stack_for
+>>> some = Wishes(Wish.undone_by("x", "f"), Wish.all_share("x"))
+>>> [str(stack_for(four, some)), [str(wish) for wish in some], some.hold(four), [str(wish) for wish in some.broken(four)]]
+['failure f, cell x 2, choice, cell y 2', ['choice in x', 'x in f'], False, ['x in f']]
+>>> found = nearest(four, some)
+>>> [str(found.stack), found.many, found.floors[("f", "y")], shows_near(four, some, found)]
+['cell y 2, failure f, cell x 2, choice', 1, 0, True]
+>>> ring = stack_for(four, some | Wishes(Wish.branch_fails("f")))
+>>> [ring == Ring(("choice", "x", "f")), bool(ring), shows_ring(some, ring), Wish.read("x in f") == Wish("x", "f")]
+[True, False, False, True]
+>>> Wish("x", "y").holds(four)
+raises BadWish('pair')
 """
 
 
@@ -121,4 +161,4 @@ class ExamplesTest(unittest.TestCase):
             self.assertEqual(answer(line, names), expected, line)
 
     def test_there_are_as_many_as_in_the_document(self):
-        self.assertEqual(len(examples()), 45)
+        self.assertEqual(len(examples()), 71)

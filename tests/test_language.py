@@ -24,6 +24,7 @@ BARRED = set(
     "type typing typing_extensions enum Enum IntEnum StrEnum Flag IntFlag Generic Protocol ABC ABCMeta namedtuple NamedTuple "
     "TypedDict TYPE_CHECKING abstractmethod register mro elements open input law version_info global eval exec".split()
 )
+LIBRARY = set("gcd lcm isqrt comb perm factorial".split())
 INTERFACE = {
     "errors": "LayerError BadName BadWord BadNumber BadDeed BadProgram BadHandler BadStack BadWish BadTalk BadSample BadBook "
               "BadText BadLine NoName NoPlace Taken Unfit Unlike TooMany NoChange",
@@ -33,6 +34,9 @@ INTERFACE = {
     "stacks": "Stack",
     "ends": "End ends_text",
     "player": "ends trace",
+    "compared": "Exchanges Parting compare crossed way led parting_of partings shows_exchanges shows_parting",
+    "classes": "layers normal many_in many_classes classes class_at class_index turned beside class_way shows_class_way",
+    "wishes": "Wish Wishes Ring Near stack_for shows_ring nearest shows_near",
 }
 
 
@@ -47,9 +51,9 @@ def defined(tree):
 
 
 def imported(tree):
-    """The pairs of a file and a name that are imported from the package."""
+    """The pairs of a file and a name that are imported, from the package or from the library."""
     return [
-        (node.module.split(".")[1], part.name) for node in tree.body if isinstance(node, ast.ImportFrom) for part in node.names
+        (node.module.split(".")[-1], part.name) for node in tree.body if isinstance(node, ast.ImportFrom) for part in node.names
     ]
 
 
@@ -59,6 +63,15 @@ def bound_in(function):
     return names + [
         part.id for part in ast.walk(function) if isinstance(part, ast.Name) and isinstance(part.ctx, ast.Store)
     ]
+
+
+def is_plain(node):
+    """Whether a value surely is a number or a string, or a row of such."""
+    if isinstance(node, ast.Call) and isinstance(node.func, ast.Name):
+        return node.func.id in ["int", "len", "str"] or node.func.id == "set" and is_plain(node.args[0])
+    if isinstance(node, ast.BinOp):
+        return is_plain(node.left) and is_plain(node.right)
+    return isinstance(node, ast.Constant) or isinstance(node, ast.ListComp) and is_plain(node.elt)
 
 
 class FilesTest(unittest.TestCase):
@@ -87,18 +100,27 @@ class ImportsTest(unittest.TestCase):
         for name, node in nodes((ast.Import, ast.ImportFrom)):
             self.assertIsInstance(node, ast.ImportFrom)
             self.assertIn(node, TREES[name].body)
-            self.assertRegex(node.module, "^layerseen\\.[a-z]+$")
+            self.assertRegex(node.module, "^(layerseen\\.[a-z]+|math)$")
             self.assertEqual(node.level, 0)
         for name, tree in TREES.items():
             for file, word in imported(tree):
+                self.assertGreater(len(re.findall(rf"\b{word}\b", TEXTS[name])), 1, f"{name} does not use {word}")
+                if file == "math":
+                    self.assertIn(word, LIBRARY)
+                    continue
                 values = [
                     target.id for node in TREES[file].body if isinstance(node, ast.Assign) for target in node.targets
                 ]
                 self.assertIn(word, defined(TREES[file]) + values, name)
-                self.assertGreater(len(re.findall(rf"\b{word}\b", TEXTS[name])), 1, f"{name} does not use {word}")
+
+    def test_what_the_library_gives_is_called_on_the_spot(self):
+        called = [node.func for name, node in nodes(ast.Call)]
+        for name, node in nodes(ast.Name):
+            if node.id in LIBRARY:
+                self.assertIn(node, called, name)
 
     def test_no_files_import_from_each_other(self):
-        left = {name: {file for file, word in imported(tree)} for name, tree in TREES.items()}
+        left = {name: {file for file, word in imported(tree)} - {"math"} for name, tree in TREES.items()}
         while left:
             free = [name for name, files in left.items() if not files & set(left)]
             self.assertTrue(free, left)
@@ -166,6 +188,13 @@ class StatementsTest(unittest.TestCase):
         for name, node in nodes(ast.Call):
             if isinstance(node.func, ast.Name) and node.func.id == "set":
                 self.assertIn(node, allowed)
+
+    def test_what_is_ordered_is_plain(self):
+        # Stack and Wishes have an order that is no order of rows.
+        for name, node in nodes(ast.Call):
+            if isinstance(node.func, ast.Name) and node.func.id in ["sorted", "min", "max"]:
+                keys = [ast.unparse(word.value) for word in node.keywords if word.arg == "key"]
+                self.assertTrue(keys == ["str"] or any(is_plain(part) for part in node.args), ast.unparse(node))
 
     def test_generators_are_iterated_at_once(self):
         made = [
