@@ -18,7 +18,8 @@ class End(Paper):
         )
 
     def __str__(self):
-        return " ; ".join(_texts_of(self))
+        head = "done" if self.failed is None else f"failed {self.failed}"
+        return " ; ".join(parts_told(head, self.cells, self.logs))
 
     def contents(self):
         return (self.failed, self.cells, self.logs)
@@ -32,11 +33,11 @@ def ends_text(ends):
     return " / ".join([str(end) for end in ends]) or "-"
 
 
-def _texts_of(end):
-    head = "done" if end.failed is None else f"failed {end.failed}"
-    cells = [f"{name} {end.cells[name]}" for name in sorted(end.cells, key=str)]
-    logs = [f"{name} {_log_text(end.logs[name])}" for name in sorted(end.logs, key=str)]
-    return [head, *cells, *logs]
+def parts_told(head, cells, logs):
+    """The parts of the text of an End or an Event: its head, then its cells, then its logs."""
+    cell_texts = [f"{name} {cells[name]}" for name in sorted(cells, key=str)]
+    log_texts = [f"{name} {_log_text(logs[name])}" for name in sorted(logs, key=str)]
+    return [head, *cell_texts, *log_texts]
 
 
 def _log_text(words):

@@ -20,23 +20,28 @@ class Stopped(Exception):
 
 class Model:
     def __init__(self, program, stack):
+        self.set_up(stack, {})
+        self.play(program)
+
+    def set_up(self, stack, start):
+        """Before the run; start has values of some cells."""
         self.stack = stack
         self.names = [handler.name for handler in stack]
         things = [handler for handler in stack if handler.WORD in ("cell", "log")]
         self.cells = sorted(handler.name for handler in things if isinstance(handler, Cell))
         self.logs = sorted(handler.name for handler in things if not isinstance(handler, Cell))
-        self.start = {handler.name: 0 if isinstance(handler, Cell) else () for handler in things}
+        self.start = {handler.name: start.get(handler.name, 0) if isinstance(handler, Cell) else () for handler in things}
         self.common = {name: self.start[name] for name in self.start if self.outside_choice(name)}
         self.ends, self.trail, self.counted, self.steps = [], [], 0, 0
-        self.refused = None
+
+    def play(self, program):
         own = {name: self.start[name] for name in self.start if not self.outside_choice(name)}
         try:
             self.row(tuple(program), own, self.end, self.end_failed)
         except Stopped:
             pass
         except OuterFailure as error:
-            self.count()
-            self.ends = [self.shown(error.args[0], self.back(error.args[0], error.args[1], self.start))]
+            self.break_off(*error.args)
 
     def outside_choice(self, name):
         return "choice" in self.names and self.names.index(name) < self.names.index("choice")
@@ -65,6 +70,14 @@ class Model:
     def end_failed(self, name, own):
         self.count()
         self.ends.append(self.shown(name, self.back(name, own, self.start)))
+
+    def break_off(self, name, own):
+        self.count()
+        self.ends = [self.shown(name, self.back(name, own, self.start))]
+
+    def stop(self, own):
+        self.count()
+        self.ends.append(self.shown(None, own))
 
     def row(self, deeds, own, done, failed):
         if not deeds:
@@ -113,8 +126,7 @@ class Model:
                 raise OuterFailure(deed.name, own)
             failed(deed.name, own)
         elif not isinstance(deed, Leave):
-            self.count()
-            self.ends.append(self.shown(None, own))
+            self.stop(own)
             raise Stopped
 
     def set(self, own, name, value):

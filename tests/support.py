@@ -8,8 +8,12 @@ from layerseen.compared import Exchanges, Parting
 from layerseen.ends import End
 from layerseen.errors import BadName, LayerError, NoChange
 from layerseen.handlers import Cell, Choice, Failure, Log
+from layerseen.likeness import Apart, Same
 from layerseen.programs import Catch, Choose, Leave, Program, Put, Stop
 from layerseen.stacks import Stack
+from layerseen.tables import Table
+from layerseen.talks import Broke, Ended, Failed, Over, Stopped, Talk
+from layerseen.told import Sample, Told
 from layerseen.wishes import Near, Ring, Wish, Wishes
 
 PLAIN_VALUES = [
@@ -26,6 +30,8 @@ def package_values():
         Cell("x"), Cell("x", 3), Log("l"), Failure("f"), Choice(), Stack(), Stack(Cell("x")),
         End(None, {}, {}), BadName("x"), NoChange(), Exchanges((0,)), Parting(Program(), (), ()), Wish("x", "f"),
         Wishes(), Wishes(Wish("x", "f")), Ring(("f", "x")), Near(Stack(), 0, {(): 0}),
+        Ended({}, {}), Failed("f", {}, {}), Broke("f", {}, {}), Stopped({"x": 1}, {}), Over({}, {}), Talk(Program(), Stack(), {}),
+        Table((), (), (), ()), Same(Table((), (), (), ())), Apart({}, (), (), ()), Sample(Program(), ()), Told(Stack(), ()),
     ]
 
 

@@ -121,6 +121,66 @@ raises BadNumber(18)
 [True, False, False, True]
 >>> Wish("x", "y").holds(four)
 raises BadWish('pair')
+>>> from layerseen.talks import Broke, Ended, Failed, Over, Stopped, Talk, replies, starts
+>>> stack = Stack.read("cell x 2, choice, cell y 3, log l")
+>>> talk = Talk(Program.read("choose ( put x 1 ; say l a ) or ( copy y x )"), stack, {"x": 0, "y": 2})
+>>> [str(talk), talk.asked, talk.is_over, talk[0] == Ended({"x": 1, "y": 2}, {"l": ("a",)})]
+['ended ; x 1 ; y 2 ; l a', ('x',), False, True]
+>>> [str(talk.reply({"x": 0})), str(talk({"x": 1})), talk.is_over, len(talk), Over({"x": 1}, {}) in talk]
+['ended ; x 0 ; y 0 ; l -', 'over ; x 1', True, 3, True]
+>>> [talk.undo(), talk.undo(), talk.undo(), str(talk.run({"x": 1}, {"x": 0})[0]), talk.replies]
+[True, True, False, 'ended ; x 1 ; y 1 ; l -', ({'x': 1}, {'x': 0})]
+>>> broken = Talk(Program.read("choose ( skip ) or ( put x 1 ; put k 1 ; fail f )"), Stack.read("cell k 2, failure f, cell x 2, choice"), {"k": 0, "x": 0})
+>>> [str(broken.reply({"k": 0, "x": 1})), broken.is_over, broken[1] == Broke("f", {"k": 1}, {})]
+['broke f ; k 1', True, True]
+>>> kept = Talk(Program.read("say l a ; put y 1 ; fail g"), Stack.read("choice, cell y 2, failure g, log l"), {"y": 0})
+>>> [str(kept), str(kept.reply({})), str(Talk(Program.read("stop"), stack, {"x": 1}, "l"))]
+['failed g ; y 1', 'over', 'stopped ; x 1 ; l -']
+>>> [list(starts(stack, "y", "x"))[:4], list(replies(stack, "y", "x")), list(replies(stack, "y"))]
+[[{'x': 0, 'y': 0}, {'x': 0, 'y': 1}, {'x': 0, 'y': 2}, {'x': 1, 'y': 0}], [{'x': 0}, {'x': 1}], [{}]]
+>>> talk.reply({"x": 1})
+raises BadTalk('over')
+>>> Talk(Program.read("put x 1"), stack, {"y": 0})
+raises BadTalk('start')
+>>> from layerseen.tables import Table, shows_table, table
+>>> put, own, shared = Program.read("put x 1"), Stack.read("choice, cell x 2"), Stack.read("cell x 2, choice")
+>>> small = Table((("x", 2),), (), (), (((Over({}, {}), None),), ((Ended({"x": 1}, {}), 0), (Ended({"x": 1}, {}), 0))))
+>>> [table(put, own) == small, small.talks, small.longest, shows_table(put, own, small), shows_table(put, shared, small)]
+[True, 2, 2, True, False]
+>>> wide = table(put, shared)
+>>> [len(wide.rows), wide.talks, [str(event) for event in wide.told({"x": 0}, {"x": 0})]]
+[2, 4, ['ended ; x 1', 'over ; x 0']]
+>>> three = table(Program.read("choose ( put x 1 ) or ( skip )"), shared)
+>>> [[(str(event), number) for event, number in row] for row in three.rows]
+[[('over ; x 0', None), ('over ; x 1', None)], [('ended ; x 0', 0), ('ended ; x 1', 0)], [('ended ; x 1', 1), ('ended ; x 1', 1)]]
+>>> [three.talks, three.longest]
+[8, 3]
+>>> from layerseen.likeness import Apart, Same, alike, meet
+>>> lost, bare = Program.read("put x 1 ; none"), Program.read("none")
+>>> [bool(alike(lost, bare, own)), alike(lost, bare, shared) == Apart({"x": 0}, (), (Over({"x": 1}, {}),), (Over({"x": 0}, {}),))]
+[True, True]
+>>> first, second = Program.read("choose ( put x 1 ) or ( put x 0 )"), Program.read("choose ( put x 1 ) or ( skip )")
+>>> found = alike(first, second, shared)
+>>> [found.start, found.replies, [str(event) for event in found.events], [str(event) for event in found.others], meet(first, second, shared)]
+[{'x': 0}, ({'x': 1},), ['ended ; x 1', 'ended ; x 0'], ['ended ; x 1', 'ended ; x 1'], 1]
+>>> alike(first, second, own).start
+{'x': 1}
+>>> from layerseen.ends import End
+>>> from layerseen.player import ends
+>>> from layerseen.programs import Program
+>>> from layerseen.told import Sample, Told, fewest, fitting, parts, shows_told, sure, told_back
+>>> three = Stack(Cell("x"), Choice(), Failure("f"))
+>>> short = Program.read("choose ( put x 1 ; fail f ) or ( skip )")
+>>> seen = Sample(short, [End("f", {"x": 1}, {}), End(None, {"x": 1}, {})])
+>>> [[layers(one) for one in fitting(three, seen)], sure(three, seen), seen.fits(three), Sample.of(short, three) == seen]
+[[(('x',), ('choice',), ('f',))], (('choice', 'f'), ('x', 'choice'), ('x', 'f')), True, True]
+>>> [parts(three, short), fewest(three, Program(), short, short), sure(three)]
+[((0,), (1,), (2, 3), (4,), (5,)), (1,), ()]
+>>> found = told_back(three, lambda program: ends(program, three))
+>>> [found.stack == three, len(found.samples), shows_told(three, found)]
+[True, 2, True]
+>>> Sample(short, [None])
+raises BadSample(0)
 """
 
 
@@ -161,4 +221,4 @@ class ExamplesTest(unittest.TestCase):
             self.assertEqual(answer(line, names), expected, line)
 
     def test_there_are_as_many_as_in_the_document(self):
-        self.assertEqual(len(examples()), 71)
+        self.assertEqual(len(examples()), 112)
