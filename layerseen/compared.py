@@ -134,7 +134,7 @@ def shows_parting(one, other, value):
     check_orders(one, other)
     if not isinstance(value, Parting) or not isinstance(value.program, Program):
         return False
-    if not one.takes(value.program) or not other.takes(value.program):
+    if not one.takes(value.program):
         return False
     try:
         found = (seen(value.program, one), seen(value.program, other))

@@ -1,4 +1,4 @@
-"""Which normal stacks keep some wishes, put together from the outermost handler.
+"""Which stacks keep some wishes without a ring, put together from the outermost handler.
 
 A set of handlers is a number: its bit at k is 1 if the k-th one, ascending by names, is in it.
 """
@@ -23,24 +23,24 @@ class Search:
         self.known = {}
 
     def first(self):
-        """The handlers of the first normal stack that keeps the wishes, of those that turn the fewest pairs."""
+        """The handlers, in the first order that keeps the wishes, of those that turn the fewest pairs.
+
+        Its names ascend in each run: neighbours that do not interact could be exchanged for an earlier order.
+        """
         row = []
-        placed, last = 0, None
+        placed = 0
         while placed != self.whole:
-            least = self.least(placed, last)
-            last = [at for at in self._next_ones(placed, last) if self._price_by(placed, at) == least][0]
-            row.append(self.handlers[last])
-            placed = placed | 1 << last
+            least = self.least(placed)
+            nearest = [at for at in self.joining(placed) if self._least_by(placed, at) == least]
+            row.append(self.handlers[nearest[0]])
+            placed = placed | 1 << nearest[0]
         return row
 
-    def least(self, placed, last):
-        """How few pairs are turned by all that is not yet placed; None if it cannot stand there."""
-        key = (placed, last)
-        if key not in self.known:
-            prices = [self._price_by(placed, at) for at in self._next_ones(placed, last)]
-            least = min([int(price) for price in prices if price is not None], default=None)
-            self.known[key] = 0 if placed == self.whole else least
-        return self.known[key]
+    def least(self, placed):
+        """How few pairs are turned by all that is not yet placed inside of a closed set."""
+        if placed not in self.known:
+            self.known[placed] = min([int(self._least_by(placed, at)) for at in self.joining(placed)], default=0)
+        return self.known[placed]
 
     def price(self, placed, at):
         """How many pairs are turned by putting this handler inside of those that are placed."""
@@ -68,17 +68,9 @@ class Search:
     def _set_of(self, names):
         return sum([1 << at for at, name in enumerate(self.names) if name in names])
 
-    def _next_ones(self, placed, last):
-        """Those that can stand next behind the last one, so that names ascend in each run."""
-        return [
-            at for at in self.joining(placed)
-            if last is None or at > last or self.handlers[at].meets(self.handlers[last])
-        ]
-
-    def _price_by(self, placed, at):
-        """The price of a handler and of the least that can follow it, None if nothing can."""
-        behind = self.least(placed | 1 << at, at)
-        return None if behind is None else self.price(placed, at) + behind
+    def _least_by(self, placed, at):
+        """The price of a handler and the least that must follow it."""
+        return self.price(placed, at) + self.least(placed | 1 << at)
 
 
 def floors_of(search):

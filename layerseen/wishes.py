@@ -1,6 +1,6 @@
 """Wishes that handlers stand inside others, and the stacks that keep them."""
 
-from layerseen.errors import BadName, BadWish, NoName, TooMany
+from layerseen.errors import BadName, BadWish, TooMany
 from layerseen.names import is_handler_name
 from layerseen.orders import check_stack, have_same_handlers, turned_pairs
 from layerseen.search import Search, floors_of, least_ring
@@ -73,10 +73,8 @@ class Wish:
     def holds(self, stack):
         """Whether the inner one stands inside the outer one."""
         check_stack(stack, "stack")
-        for name in (self.inner, self.outer):
-            if name not in stack:
-                raise NoName(name)
-        if not stack.handler(self.inner).meets(stack.handler(self.outer)):
+        inner = stack.handler(self.inner)
+        if not inner.meets(stack.handler(self.outer)):
             raise BadWish("pair")
         return stack.is_inside(self.inner, self.outer)
 
@@ -223,7 +221,7 @@ def nearest(stack, wishes):
         return Ring(names)
     search = Search(stack, pairs, stack.pairs)
     row = search.first()
-    return Near(Stack(*row), search.least(0, None), floors_of(search))
+    return Near(Stack(*row), search.least(0), floors_of(search))
 
 
 def shows_ring(wishes, value):

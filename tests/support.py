@@ -14,6 +14,7 @@ from layerseen.stacks import Stack
 from layerseen.tables import Table
 from layerseen.talks import Broke, Ended, Failed, Over, Stopped, Talk
 from layerseen.told import Sample, Told
+from layerseen.values import same as strictly_same
 from layerseen.wishes import Near, Ring, Wish, Wishes
 
 PLAIN_VALUES = [
@@ -108,7 +109,14 @@ class LayerCase(unittest.TestCase):
                 self.assertTrue(made(*row) == made(*row))
                 self.assertFalse(made(*row) != made(*row))
                 row[at] = (7, value)
-                self.assertFalse(made(*row) == made(*[*row[:at], (8, value), *row[at + 1:]]))
+                bent = [*row[:at], (8, value), *row[at + 1:]]
+                self.assertFalse(made(*row) == made(*bent))
+                self.assertIs(strictly_same([made(*row)], [made(*bent)]), False)
+            for value, other in [(1, True), (0, False), ([1], (1,)), ({"x": 1}, {"x": True}), (End(1, 0, 0), End(True, 0, 0))]:
+                row = [0] * len(names)
+                row[at] = other
+                self.assertIs(strictly_same(made(*row), made(*[*row[:at], value, *row[at + 1:]])), False)
+                self.assertIs(strictly_same(made(*row), made(*row)), True)
             inner, end = {"x": [1]}, End(None, {"x": 1}, {"l": ()})
             row = [0] * len(names)
             row[at] = [(inner,), {"k": end}]

@@ -294,7 +294,7 @@ class ShowsClassWayTest(LayerCase):
             self.assertIs(shows_class_way(one, other, list(way)), False)
             for bent in [
                 way[:2], way[1:], way[::2], way + way[-1:], way[:1] + way, (way[0], way[1], way[0], way[1], way[2]), (way[0], way[0], way[2]),
-                (way[0], way[2], way[2]), (way[0], way[2], way[1]), (way[1], way[0], way[1]), (), (way,), tuple(map(str, way)), (way[0], None, way[2]),
+                (way[0], way[1], way[0]), (way[2], way[1], way[2]), (way[0], way[2], way[2]), (way[0], way[2], way[1]), (way[1], way[0], way[1]), (), (way,), tuple(map(str, way)), (way[0], None, way[2]),
                 (way[0], way[1] - "choice", way[2]), (way[0], way[1].renamed({"x": "z"}), way[2]), (way[0], way[1] + G, way[2]),
                 (way[0], way[1], Stack.read("failure f, cell x 2, cell y 4, choice")), tuple(stack.names for stack in way),
             ]:

@@ -45,13 +45,14 @@ def some_wishes(count, sets):
 
 
 def ring_of(wishes):
-    """The least ring of as few names as any, by going through all rows of names."""
-    pairs = {(wish.inner, wish.outer) for wish in wishes}
-    names = sorted({name for pair in pairs for name in pair})
-    for many in range(2, len(names) + 1):
-        for row in itertools.permutations(names, many):
-            if set(zip(row, row[1:] + row[:1])) <= pairs:
-                return row
+    """The least ring of as few names as any, by going on with all rows of unlike names."""
+    pairs = sorted((wish.inner, wish.outer) for wish in wishes)
+    rows = [(name,) for name in sorted({inner for inner, outer in pairs})]
+    while rows:
+        closed = [row for row in rows if (row[-1], row[0]) in pairs]
+        if closed:
+            return min(closed)
+        rows = [(*row, outer) for row in rows for inner, outer in pairs if inner == row[-1] and outer not in row]
     return None
 
 
@@ -336,6 +337,40 @@ class SearchTest(LayerCase):
                     self.same(found.names, ring)
                     self.assertIs(shows_ring(wishes, found), True)
 
+    def test_rings_of_many_wishes(self):
+        dice = random.Random(9)
+        handlers = [X, Y, L, F, G, C, Cell("a"), Failure("c")]
+        wishes = possible(handlers)
+        sizes = []
+        for turn in range(3000):
+            some = Wishes(*dice.sample(wishes, dice.randrange(2, 16)))
+            if turn % 2:
+                # A ring of some length that is there for sure, and few other wishes.
+                row = dice.sample(handlers, dice.randrange(2, 9))
+                if not all(one.meets(other) for one, other in zip(row, row[1:] + row[:1])):
+                    continue
+                around = [Wish(one.name, other.name) for one, other in zip(row, row[1:] + row[:1])]
+                some = Wishes(*around, *dice.sample(wishes, dice.randrange(4)))
+            ring = ring_of(some)
+            found = stack_for(Stack(*handlers), some)
+            if ring is None:
+                self.assertTrue(kept_by(found, some))
+            else:
+                self.same(found, Ring(ring))
+                self.assertIs(shows_ring(some, found), True)
+                sizes.append(len(ring))
+        self.assertGreater(len(set(sizes)), 4)
+
+    def test_the_least_ring_is_the_shortest_one(self):
+        stack = Stack(X, F, G, C, Y)
+        for texts, names in [
+            (["choice in x", "x in f", "f in choice", "g in x", "x in g"], ("g", "x")), (["x in f", "f in x", "y in f", "f in y"], ("f", "x")),
+            (["choice in x", "x in f", "f in choice"], ("choice", "x", "f")), (["x in f", "f in y", "y in choice", "choice in x"], ("choice", "x", "f", "y")),
+            (["x in f", "f in y", "y in choice", "choice in x", "y in g", "g in x", "f in choice"], ("choice", "x", "f")),
+        ]:
+            self.assertEqual(stack_for(stack, wishes_of(*texts)), Ring(names))
+            self.assertEqual(nearest(stack, wishes_of(*texts)), Ring(names))
+
     def check_near(self, stack, wishes, keeping):
         found = nearest(stack, wishes)
         many = min(apart(stack, row) for row in keeping)
@@ -453,6 +488,14 @@ class ShowsNearTest(LayerCase):
         self.assertIs(shows_near(FOUR, self.WISHES, near), False)
         ring = self.WISHES | wishes_of("f in choice")
         self.assertIs(shows_near(FOUR, ring, near), False)
+
+    def test_stacks_that_differ_in_more_or_in_other_pairs(self):
+        wishes = wishes_of("x in f")
+        near = nearest(FOUR, wishes)
+        self.assertEqual([str(near.stack), near.many], ["cell y 3, failure f, cell x 2, choice", 1])
+        for row in [[X, F, Y, C], [X, Y, C, F], [F, X, Y, C], [F, Y, X, C], [Y, F, C, X], [X, Y, F, C]]:
+            self.assertIs(shows_near(FOUR, wishes, Near(Stack(*row), 1, near.floors)), False)
+            self.assertIs(shows_near(FOUR, wishes, Near(Stack(*row), apart(FOUR, Stack(*row)), near.floors)), False)
 
     def test_the_empty_stack(self):
         self.assertEqual(nearest(Stack(), Wishes()), Near(Stack(), 0, {(): 0}))
