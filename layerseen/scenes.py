@@ -39,9 +39,8 @@ class Scene:
     def go_on(self, moment, values):
         """The next Turn, with these values of the shared cells; words that were told are not told again."""
         answer = {name: values[name] for name in self.asked}
-        cells = {name: moment.shared[name] for name in moment.shared if is_cell_of(self.stack, name)}
-        logs = {name: () for name in moment.shared if is_log_of(self.stack, name)}
-        shared = {**cells, **logs, **answer}
+        logs = {name: () for name in self.logs if name in moment.shared}
+        shared = {**moment.shared, **logs, **answer}
         return self._played(answer, Moment(shared, moment.waiting, moment.steps, moment.counted))
 
     def _played(self, answer, moment):

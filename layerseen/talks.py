@@ -151,9 +151,6 @@ class Talk:
         self.begun = {cell: start[cell] for cell in self.scene.cells}
         self.start = dict(self.begun)
         self.asked = self.scene.asked
-        self.events = ()
-        self.replies = ()
-        self.turns = ()
         self._set_turns((self.scene.begin(self.begun),))
 
     def __len__(self):

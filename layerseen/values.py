@@ -49,7 +49,7 @@ def same(one, other):
             isinstance(other, dict) and len(one) == len(other)
             and all([key in other and same(one[key], other[key]) for key in one])
         )
-    if isinstance(one, Paper) and isinstance(other, Paper):
+    if isinstance(one, Paper):
         return one == other and same(one.contents(), other.contents())
     return one == other
 

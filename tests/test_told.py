@@ -12,6 +12,7 @@ from layerseen.player import ends
 from layerseen.programs import Leave, Program, Put
 from layerseen.stacks import Stack
 from layerseen.told import Sample, Told, fewest, fitting, parts, shows_told, sure, told_back
+from layerseen.values import same as strictly_same
 from tests.support import LayerCase, orders, values
 from tests.test_player_orders import random_program
 from tests.test_talks import both, says
@@ -105,6 +106,10 @@ class SampleTest(LayerCase):
             self.assertIs(Sample(program, [end]).fits(stack), fits)
         self.assertIs(Sample(program, []).fits(stack), False)
         self.assertIs(Sample(program, [End(None, {"x": 1}, logs)] * 2).fits(stack), False)
+
+    def test_kinds_of_samples(self):
+        one, other = [Sample(SHORT, [End(None, {"x": value}, {})]) for value in (1, True)]
+        self.assertEqual([strictly_same(one, Sample(SHORT, one.ends)), strictly_same(one, other)], [True, False])
 
     def test_errors_of_fits_and_of(self):
         sample = Sample(Program.read("put x 2"), [])
