@@ -64,16 +64,16 @@ class Meeting:
         """How many events the talks from two rows on have at least until they part; None if none part."""
         key = (number, other)
         if key not in self.known:
-            found = [self.until(pair, beside) for pair, beside in zip(self.rows[number], self.others[other])]
+            found = [self.until(pair, facing) for pair, facing in zip(self.rows[number], self.others[other])]
             self.known[key] = min([int(many) for many in found if many is not None], default=None)
         return self.known[key]
 
-    def until(self, pair, beside):
+    def until(self, pair, facing):
         """The same from two pairs of an event and a number on."""
-        if pair[0] != beside[0]:
+        if pair[0] != facing[0]:
             return 1
         # Equal events are both the last one of their talk, or none of them is.
-        behind = None if pair[1] is None else self.least(pair[1], beside[1])
+        behind = None if pair[1] is None else self.least(pair[1], facing[1])
         return None if behind is None else behind + 1
 
     def first(self):
@@ -81,10 +81,10 @@ class Meeting:
         number, other = len(self.rows) - 1, len(self.others) - 1
         places = []
         for left in range(self.least(number, other), 0, -1):
-            row, beside = self.rows[number], self.others[other]
-            place = [at for at in range(len(row)) if self.until(row[at], beside[at]) == left][0]
+            row, facing = self.rows[number], self.others[other]
+            place = [at for at in range(len(row)) if self.until(row[at], facing[at]) == left][0]
             places.append(place)
-            number, other = row[place][1], beside[place][1]
+            number, other = row[place][1], facing[place][1]
         return places
 
 
