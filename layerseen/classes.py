@@ -199,9 +199,10 @@ def _row_behind(row):
 def _first_row(row, rest):
     """The first normal row of the rest behind a row that can be gone on with."""
     while rest:
-        free = [handler for handler in _followers(row, rest) if not _is_stuck(handler, _without(rest, handler))]
-        row = row + free[:1]
-        rest = _without(rest, free[0])
+        # Those of the last one's sort that cannot follow at once follow behind the first of another sort.
+        least = _followers(row, rest)[0]
+        row = [*row, least]
+        rest = _without(rest, least)
     return row
 
 

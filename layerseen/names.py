@@ -26,7 +26,7 @@ def is_name(value):
 
 def is_handler_name(value):
     """Whether any value is a name that a handler can have; that of the choice is no name otherwise."""
-    return is_name(value) or isinstance(value, str) and value == "choice"
+    return is_name(value) or value == "choice"
 
 
 def check_name(value):
