@@ -60,7 +60,7 @@ class Meeting:
         self.others = others
         self.known = {}
 
-    def least(self, number, other):
+    def soonest(self, number, other):
         """How many events the talks from two rows on have at least until they part; None if none part."""
         key = (number, other)
         if key not in self.known:
@@ -73,14 +73,14 @@ class Meeting:
         if pair[0] != facing[0]:
             return 1
         # Equal events are both the last one of their talk, or none of them is.
-        behind = None if pair[1] is None else self.least(pair[1], facing[1])
+        behind = None if pair[1] is None else self.soonest(pair[1], facing[1])
         return None if behind is None else behind + 1
 
     def first(self):
         """The places in the rows of the first talk that parts with as few events as any, from its start on."""
         number, other = len(self.rows) - 1, len(self.others) - 1
         places = []
-        for left in range(self.least(number, other), 0, -1):
+        for left in range(self.soonest(number, other), 0, -1):
             row, facing = self.rows[number], self.others[other]
             place = [at for at in range(len(row)) if self.until(row[at], facing[at]) == left][0]
             places.append(place)
