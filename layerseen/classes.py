@@ -3,7 +3,7 @@
 from math import comb, factorial
 
 from layerseen.counting import CHOICE, FAILURES, THINGS, Counts
-from layerseen.errors import BadNumber
+from layerseen.errors import BadNumber, TooMany
 from layerseen.handlers import Failure, Keeping
 from layerseen.orders import check_orders, check_stack, have_same_handlers, turned_pairs
 from layerseen.stacks import Stack
@@ -40,6 +40,19 @@ def many_classes(keeping, failures, has_choice):
     if not isinstance(has_choice, bool):
         raise BadNumber(has_choice)
     return Counts(max(int(keeping), int(failures))).number(keeping, failures, int(has_choice), None)
+
+
+def many_for(stack):
+    """How many classes the stacks of the handlers of a stack have."""
+    rest = list(stack)
+    return _many_rows(Counts(len(rest)), rest, None)
+
+
+def all_classes(stack, most):
+    """The normal stacks of all classes of the handlers, in order, if they are not too many."""
+    if many_for(stack) > most:
+        raise TooMany("classes", most)
+    return list(classes(stack))
 
 
 def classes(stack, index=0):

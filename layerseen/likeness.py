@@ -90,8 +90,8 @@ class Meeting:
 
 def alike(one, other, stack):
     """A Same if two programs are alike under a stack, otherwise an Apart."""
-    _check_programs(one, other, stack)
-    names = [*one.cells, *one.logs, *other.cells, *other.logs]
+    check_programs(one, other, stack)
+    names = things_named(one, other)
     first = table_about(one, stack, names)
     second = table_about(other, stack, names)
     if first == second:
@@ -110,10 +110,16 @@ def meet(one, other, stack):
     return None if found else len(found.events) - 1
 
 
-def _check_programs(one, other, stack):
+def check_programs(one, other, stack):
+    """Refuses any values that are not two Programs and a Stack that takes both."""
     for program, part in ((one, "one"), (other, "other")):
         if not isinstance(program, Program):
             raise BadProgram(part)
     check_stack(stack, "stack")
     stack.check(one)
     stack.check(other)
+
+
+def things_named(one, other):
+    """The names of the things that one of two programs names; one may stand twice."""
+    return [*one.cells, *one.logs, *other.cells, *other.logs]

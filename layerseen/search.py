@@ -18,7 +18,7 @@ class Search:
         self.handlers = [stack.handler(name) for name in self.names]
         self.whole = (1 << len(self.names)) - 1
         # Of each handler: those that it shall stand inside of, and those that turn if they stand outside of it.
-        self.needed = [self._set_of([outer for inner, outer in wished if inner == name]) for name in self.names]
+        self.around = [self._set_of([outer for inner, outer in wished if inner == name]) for name in self.names]
         self.turning = [self._set_of([inner for outer, inner in old if outer == name]) for name in self.names]
         self.known = {}
 
@@ -51,14 +51,14 @@ class Search:
         """The closed sets, each behind its parts."""
         return [
             some for some in range(self.whole + 1)
-            if all([self.needed[at] & ~some == 0 for at in range(len(self.names)) if some >> at & 1])
+            if all([self.around[at] & ~some == 0 for at in range(len(self.names)) if some >> at & 1])
         ]
 
     def joining(self, some):
         """The handlers with which a closed set is closed, too."""
         return [
-            at for at, needed in enumerate(self.needed)
-            if not some >> at & 1 and needed & ~some == 0
+            at for at, around in enumerate(self.around)
+            if not some >> at & 1 and around & ~some == 0
         ]
 
     def names_of(self, some):

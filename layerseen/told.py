@@ -1,10 +1,9 @@
 """Which stack was it: classes told back from what was seen."""
 
-from layerseen.classes import classes, many_classes
+from layerseen.classes import all_classes
 from layerseen.compared import parting_of
 from layerseen.ends import End, ends_text
 from layerseen.errors import BadProgram, BadSample, TooMany, Unfit
-from layerseen.handlers import Choice, Failure, Keeping
 from layerseen.orders import check_stack
 from layerseen.programs import Program
 from layerseen.seen import seen
@@ -136,11 +135,7 @@ def shows_told(stack, value):
 def _all_classes(stack):
     """The normal stacks of all classes, if they are not too many."""
     check_stack(stack, "stack")
-    things = len([handler for handler in stack if isinstance(handler, Keeping)])
-    failures = len([handler for handler in stack if isinstance(handler, Failure)])
-    if many_classes(things, failures, Choice() in stack.handlers) > MOST_CLASSES:
-        raise TooMany("classes", MOST_CLASSES)
-    return list(classes(stack))
+    return all_classes(stack, MOST_CLASSES)
 
 
 def _fitting_rows(stack, samples):

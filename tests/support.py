@@ -10,11 +10,13 @@ from layerseen.errors import BadName, LayerError, NoChange
 from layerseen.handlers import Cell, Choice, Failure, Log
 from layerseen.likeness import Apart, Same
 from layerseen.programs import Catch, Choose, Leave, Program, Put, Stop
+from layerseen.slim import Slim
 from layerseen.stacks import Stack
 from layerseen.tables import Table
 from layerseen.talks import Broke, Ended, Failed, Over, Stopped, Talk
 from layerseen.told import Sample, Told
 from layerseen.values import same as strictly_same
+from layerseen.where import Rule, Where
 from layerseen.wishes import Near, Ring, Wish, Wishes
 
 PLAIN_VALUES = [
@@ -33,6 +35,7 @@ def package_values():
         Wishes(), Wishes(Wish("x", "f")), Ring(("f", "x")), Near(Stack(), 0, {(): 0}),
         Ended({}, {}), Failed("f", {}, {}), Broke("f", {}, {}), Stopped({"x": 1}, {}), Over({}, {}), Talk(Program(), Stack(), {}),
         Table((), (), (), ()), Same(Table((), (), (), ())), Apart({}, (), (), ()), Sample(Program(), ()), Told(Stack(), ()),
+        Where(()), Rule("over", Program(), Program(), ((),)), Slim(Program(), ()),
     ]
 
 

@@ -5,7 +5,7 @@ import unittest
 
 from layerseen.errors import LayerError
 
-EXAMPLES = """
+EXAMPLES = r"""
 >>> from layerseen.names import fresh, is_name, is_word
 >>> [is_name("x"), is_name("put"), is_word("put"), is_name("abcdefghi"), is_name("x1"), is_word("")]
 [True, False, True, False, False, False]
@@ -156,6 +156,7 @@ raises BadTalk('start')
 >>> [three.talks, three.longest]
 [8, 3]
 >>> from layerseen.likeness import Apart, Same, alike, meet
+>>> from layerseen.look_likeness import shows_alike
 >>> lost, bare = Program.read("put x 1 ; none"), Program.read("none")
 >>> [bool(alike(lost, bare, own)), alike(lost, bare, shared) == Apart({"x": 0}, (), (Over({"x": 1}, {}),), (Over({"x": 0}, {}),))]
 [True, True]
@@ -163,8 +164,30 @@ raises BadTalk('start')
 >>> found = alike(first, second, shared)
 >>> [found.start, found.replies, [str(event) for event in found.events], [str(event) for event in found.others], meet(first, second, shared)]
 [{'x': 0}, ({'x': 1},), ['ended ; x 1', 'ended ; x 0'], ['ended ; x 1', 'ended ; x 1'], 1]
->>> alike(first, second, own).start
-{'x': 1}
+>>> [alike(first, second, own).start, shows_alike(first, second, shared, found), shows_alike(lost, bare, own, Same(table(bare, own, "x")))]
+[{'x': 1}, True, True]
+>>> from layerseen.where import Rule, Where, groups, rules, shown, shows_where, where
+>>> put, none = Program.read("put x 1 ; none"), Program.read("none")
+>>> found = where(put, none, Stack(x, f, c))
+>>> [len(found.rows), [str(stack) for stack in found.stacks if stack.place("x") == 0], found.needed, found.reasons(), bool(found), Stack(c, x, f) in found, Stack(x, c, f) in found]
+[6, [], (('choice', 'x'),), ((('choice', 'x'),),), False, True, False]
+>>> [found.enough((("choice", "f"), ("f", "x"))), found.enough((("x", "f"),)), found.enough(()), where(none, none, Stack(x, f)).reasons()]
+[True, False, False, ((),)]
+>>> last = [rule for rule in rules(Stack(x, f, c))][-1]
+>>> [last.word, last.conditions, len([rule for rule in rules(Stack(x, f, c))])]
+['gathered', ((('choice', 'f'),), (('choice', 'x'),)), 8]
+>>> [len(groups(Program.read("put x 1 ; fail f"), Stack(x, f, c))), shown(Program.read("put x 1 ; fail f"), Stack(x, f, c)), shown(put, Stack(x, f, c))]
+[2, (('f', 'x'),), ()]
+>>> from layerseen.slim import Slim, idle, shows_slim, slimmed
+>>> twice = Program.read("put x 1 ; put x 2")
+>>> [idle(twice, Stack.read("cell x 3")), slimmed(twice, Stack.read("cell x 3")) == Slim(Program.read("put x 2"), ((0,),))]
+[((0,),), True]
+>>> lost = Program.read("put x 1 ; none")
+>>> [idle(lost, Stack.read("choice, cell x 2")), idle(lost, Stack.read("cell x 2, choice"))]
+[((0,),), ()]
+>>> both = Program.read("choose ( put x 1 ) or ( none ) ; stop ; say l a")
+>>> [str(slimmed(both, Stack.read("choice, cell x 2, log l")).program), shows_slim(both, Slim(both, ()), Stack.read("choice, cell x 2, log l"))]
+['choose ( put x 1 ) or ( skip ) ; stop', False]
 >>> from layerseen.ends import End
 >>> from layerseen.player import ends
 >>> from layerseen.programs import Program
@@ -195,10 +218,10 @@ def answer(line, names):
     try:
         code = compile(line, "example", "eval")
     except SyntaxError:
-        exec(line, names)
-        return None
+        code = compile(line, "example", "exec")
     try:
-        return repr(eval(code, names))
+        found = eval(code, names)
+        return None if found is None else repr(found)
     except LayerError as error:
         return told(error)
 
@@ -221,4 +244,4 @@ class ExamplesTest(unittest.TestCase):
             self.assertEqual(answer(line, names), expected, line)
 
     def test_there_are_as_many_as_in_the_document(self):
-        self.assertEqual(len(examples()), 112)
+        self.assertEqual(len(examples()), 128)

@@ -39,6 +39,9 @@ INTERFACE = {
     "talks": "Event Ended Failed Broke Stopped Over Talk starts replies",
     "tables": "Table table shows_table",
     "likeness": "alike Same Apart meet",
+    "look_likeness": "shows_alike",
+    "where": "Where where shows_where groups shown Rule rules",
+    "slim": "Slim idle slimmed shows_slim",
     "told": "Sample fitting sure parts fewest told_back Told shows_told",
     "wishes": "Wish Wishes Ring Near stack_for shows_ring nearest shows_near",
 }
@@ -104,7 +107,7 @@ class ImportsTest(unittest.TestCase):
         for name, node in nodes((ast.Import, ast.ImportFrom)):
             self.assertIsInstance(node, ast.ImportFrom)
             self.assertIn(node, TREES[name].body)
-            self.assertRegex(node.module, "^(layerseen\\.[a-z]+|math)$")
+            self.assertRegex(node.module, "^(layerseen\\.[a-z_]+|math)$")
             self.assertEqual(node.level, 0)
         for name, tree in TREES.items():
             for file, word in imported(tree):
