@@ -146,6 +146,18 @@ def next_handler(words):
     return Choice()
 
 
+def next_handlers(words):
+    """The handlers that the next words tell, a comma behind each but the last one; - tells none."""
+    if words.sees("-"):
+        words.take("-")
+        return ()
+    row = [next_handler(words)]
+    while words.sees(","):
+        words.take(",")
+        row.append(next_handler(words))
+    return tuple(row)
+
+
 def _meet_one_way(one, other):
     if isinstance(one, Keeping):
         return isinstance(other, Turning)

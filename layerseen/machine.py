@@ -83,7 +83,7 @@ class Run:
         self.word = None
         self.failed = None
 
-    def play(self):
+    def advance(self):
         """Runs until the next event comes up, and returns its word."""
         self.branch = None
         self.word = None

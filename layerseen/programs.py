@@ -232,7 +232,7 @@ class Program:
     @classmethod
     def read(cls, text):
         """The Program with just this text."""
-        return _program_from(whole_program(text))
+        return program_from(whole_program(text))
 
     def __len__(self):
         return len(self.deeds)
@@ -362,13 +362,14 @@ def _with_parts(deed, names, blocks):
     return _made(deed.WORD, renamed_fields(deed, names) + blocks)
 
 
-def _program_from(tree):
+def program_from(tree):
+    """The Program of a tuple that grammar tells."""
     row = [_deed_from(part) for part in tree]
     return Program(*row)
 
 
 def _deed_from(tree):
-    return _made(tree[0], [_program_from(part) if isinstance(part, tuple) else part for part in tree[1:]])
+    return _made(tree[0], [program_from(part) if isinstance(part, tuple) else part for part in tree[1:]])
 
 
 def _made(word, fields):

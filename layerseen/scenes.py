@@ -45,7 +45,7 @@ class Scene:
 
     def _played(self, answer, moment):
         run = Run(self.stack, moment)
-        run.play()
+        run.advance()
         things = run.things()
         told = list(things) if run.failed is None else self.stack.kept(run.failed)
         cells = {name: things[name] for name in self.cells if name in told}

@@ -37,7 +37,7 @@ def _new_run(program, stack):
 def _played(run):
     """The Ends of a whole run."""
     found = []
-    while run.play() in ("ended", "failed"):
+    while run.advance() in ("ended", "failed"):
         found.append(_end_of(run))
     if run.word == "stopped":
         return [*found, _end_of(run)]

@@ -1,7 +1,7 @@
 """Stacks: rows of handlers, the outermost one first."""
 
 from layerseen.errors import BadHandler, BadProgram, BadStack, NoName, NoPlace, Taken, TooMany, Unfit
-from layerseen.handlers import Cell, Failure, Handler, Keeping, Log, next_handler
+from layerseen.handlers import Cell, Failure, Handler, Keeping, Log, next_handlers
 from layerseen.names import is_renaming
 from layerseen.programs import Program
 from layerseen.values import ascending, is_index
@@ -35,14 +35,7 @@ class Stack:
     def read(cls, text):
         """The Stack with just this text."""
         words = Words(text, ",")
-        if words.sees("-"):
-            words.take("-")
-            words.finish()
-            return Stack()
-        row = [next_handler(words)]
-        while words.sees(","):
-            words.take(",")
-            row.append(next_handler(words))
+        row = next_handlers(words)
         words.finish()
         return Stack(*row)
 

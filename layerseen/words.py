@@ -26,13 +26,21 @@ class Words:
 
     def refuse(self):
         """Tells that the next piece cannot stand, or that it is missing."""
-        if self.at < len(self.pieces):
+        if self.has_more():
             raise BadText(0, self.pieces[self.at][1])
         raise BadText(0, self.many)
 
+    def has_more(self):
+        """Whether there is a next piece."""
+        return self.at < len(self.pieces)
+
     def sees(self, wanted):
         """Whether the next piece is this one."""
-        return self.at < len(self.pieces) and self.pieces[self.at][0] == wanted
+        return self.has_more() and self.pieces[self.at][0] == wanted
+
+    def sees_word(self):
+        """Whether the next piece is a word for a log."""
+        return self.has_more() and is_word(self.pieces[self.at][0])
 
     def take(self, *wanted):
         """Goes past the next piece, which must be one of these, and returns it."""
@@ -42,8 +50,12 @@ class Words:
                 return piece
         self.refuse()
 
-    def take_name(self):
-        """Goes past a name and returns it."""
+    def take_name(self, last="", barred=()):
+        """Goes past a name that is greater than the last one and none of the barred ones, and returns it."""
+        if self.has_more() and self.pieces[self.at][0] <= last:
+            self.refuse()
+        if any([self.sees(name) for name in barred]):
+            self.refuse()
         return self._take_if(is_name)
 
     def take_handler_name(self):
@@ -54,6 +66,10 @@ class Words:
         """Goes past a word for a log and returns it."""
         return self._take_if(is_word)
 
+    def sees_number(self, least, most):
+        """Whether the next piece is an integer from least to most."""
+        return any([self.sees(str(number)) for number in range(least, most + 1)])
+
     def take_number(self, least, most):
         """Goes past an integer from least to most and returns it."""
         figures = [str(number) for number in range(least, most + 1)]
@@ -61,11 +77,11 @@ class Words:
 
     def finish(self):
         """Refuses whatever is left."""
-        if self.at < len(self.pieces):
+        if self.has_more():
             self.refuse()
 
     def _take_if(self, fits):
-        if self.at == len(self.pieces) or not fits(self.pieces[self.at][0]):
+        if not self.has_more() or not fits(self.pieces[self.at][0]):
             self.refuse()
         self.at = self.at + 1
         return self.pieces[self.at - 1][0]

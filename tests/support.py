@@ -4,7 +4,9 @@ import inspect
 import itertools
 import unittest
 
+from layerseen.bench import Bench
 from layerseen.compared import Exchanges, Parting
+from layerseen.desk import Desk
 from layerseen.ends import End
 from layerseen.errors import BadName, LayerError, NoChange
 from layerseen.handlers import Cell, Choice, Failure, Log
@@ -36,6 +38,7 @@ def package_values():
         Ended({}, {}), Failed("f", {}, {}), Broke("f", {}, {}), Stopped({"x": 1}, {}), Over({}, {}), Talk(Program(), Stack(), {}),
         Table((), (), (), ()), Same(Table((), (), (), ())), Apart({}, (), (), ()), Sample(Program(), ()), Told(Stack(), ()),
         Where(()), Rule("over", Program(), Program(), ((),)), Slim(Program(), ()),
+        Bench(Stack()), Desk(Stack()),
     ]
 
 

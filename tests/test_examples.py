@@ -204,6 +204,40 @@ raises BadTalk('start')
 [True, 2, True]
 >>> Sample(short, [None])
 raises BadSample(0)
+>>> from layerseen.bench import Bench
+>>> bench = Bench(Stack.read("choice, cell x 3, failure f"))
+>>> bench["risk"] = Program.read("choose ( put x 1 ; fail f ) or ( skip )")
+>>> bench.put("two", Program.read("put x 1 ; put x 2"))
+>>> [ends_text(bench.play("risk")), list(bench), bench.exchange(1), ends_text(bench.play("risk")), bench.unmoved(Stack.read("cell x 3, choice, failure f"))]
+['failed f ; x 1 / done ; x 0', ['risk', 'two'], True, 'failed f ; x 0 / done ; x 0', ('two',)]
+>>> [bench.slim("two"), str(bench["two"]), bench.history, bench.undo(), bench.tried(lambda same: same.drop("two")), len(bench)]
+[1, 'put x 2', ('put', 'put', 'exchange', 'slim'), 'slim', None, 2]
+>>> bench.glue("long", "two", "risk", "none")
+raises NoName('none')
+>>> bench.stack_now = Stack.read("choice, cell x 2, failure f")
+raises Unfit('x')
+>>> from layerseen.reader import read_bench, read_ends
+>>> from layerseen.texts import bench_text
+>>> bench_text(bench).split("\n")
+['choice, failure f, cell x 3', 'risk : choose ( put x 1 ; fail f ) or ( skip )', 'two : put x 1 ; put x 2']
+>>> [read_bench(bench_text(bench)) == bench, len(read_bench("choice")), read_ends("failed f ; x 1 ; l - / done") == (End("f", {"x": 1}, {"l": ()}), End(None, {}, {}))]
+[True, 0, True]
+>>> read_bench("choice\na : put x 1")
+raises BadText(1, 0)
+>>> read_bench("choice\nb : skip\na : skip")
+raises BadText(2, 0)
+>>> read_ends("done ; l a ; x 1")
+raises BadText(0, 6)
+>>> from layerseen.desk import Desk
+>>> desk = Desk(Stack.read("cell y 2, cell x 2, failure f, choice"))
+>>> desk.run("put a choose ( put x 1 ) or ( skip )", "put b put x 3", "play a", "class", "exchange 0", "exchange 1", "undo")
+['ok', 'refused Unfit', 'done ; x 1 ; y 0 / done ; x 1 ; y 0', '13 of 18', 'hidden', 'seen', 'exchange']
+>>> desk.run("compare cell y 2, cell x 2, failure f, choice", "wish x in f and choice in x", "wish x in f and f in x", "show")
+['same 0', 'failure f, cell x 2, choice, cell y 2', 'ring f x', 'cell x 2, cell y 2, failure f, choice / a : choose ( put x 1 ) or ( skip )']
+>>> desk("put if skip")
+raises BadLine(1)
+>>> desk("near x in")
+raises BadLine(3)
 """
 
 
@@ -244,4 +278,4 @@ class ExamplesTest(unittest.TestCase):
             self.assertEqual(answer(line, names), expected, line)
 
     def test_there_are_as_many_as_in_the_document(self):
-        self.assertEqual(len(examples()), 128)
+        self.assertEqual(len(examples()), 149)

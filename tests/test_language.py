@@ -42,6 +42,10 @@ INTERFACE = {
     "look_likeness": "shows_alike",
     "where": "Where where shows_where groups shown Rule rules",
     "slim": "Slim idle slimmed shows_slim",
+    "bench": "Bench",
+    "texts": "bench_text",
+    "reader": "read_bench read_ends",
+    "desk": "Desk",
     "told": "Sample fitting sure parts fewest told_back Told shows_told",
     "wishes": "Wish Wishes Ring Near stack_for shows_ring nearest shows_near",
 }
