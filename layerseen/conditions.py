@@ -33,7 +33,7 @@ class Conditions:
                     reached.append(part)
         return [some for some in found if not any([some != other and some & ~other == 0 for other in found])]
 
-    def fewest(self, some):
+    def fewest_pairs(self, some):
         """The ascending fewest pairs that just these stacks have, for a set that a condition has."""
         held = [at for at, having in enumerate(self.having) if some & ~having == 0]
         pairs = [self.pairs[at] for at in held if self._common([other for other in held if other != at]) != some]

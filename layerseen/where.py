@@ -84,7 +84,7 @@ class Where(Paper):
         good = sum([1 << at for at, row in enumerate(self.rows) if row[1]])
         by_text = {}
         for some in conditions.greatest(good):
-            pairs = conditions.fewest(some)
+            pairs = conditions.fewest_pairs(some)
             names = [name for pair in pairs for name in pair]
             by_text[" ".join([f"{len(pairs):02d}", *names])] = pairs
         return tuple([by_text[text] for text in sorted(by_text, key=str)])
