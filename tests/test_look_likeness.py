@@ -216,8 +216,8 @@ class SameTest(LayerCase):
         stack = Stack.read("cell x 2, cell y 2, log l, choice, log m")
         one, other = Program.read("put x 1"), Program.read("put x 0 ; put x 1 ; if y = 1 ( skip ) else ( skip ) ; if y = 0 ( say l a ) else ( say l a )")
         second = Program.read("put x 1 ; say l a")
-        for names, right in [(["y", "l"], True), ([], False), (["y"], False), (["l"], False), (["y", "l", "m"], False)]:
-            self.assertIs(shows_alike(second, other, stack, Same(table(second, stack, *names))), "y" in names and "m" not in names)
+        for names, right in [(["y", "l"], True), ([], False), (["y"], True), (["l"], False), (["y", "l", "m"], False)]:
+            self.assertIs(shows_alike(second, other, stack, Same(table(second, stack, *names))), right)
             self.assertIs(shows_alike(second, second + other, stack, Same(table(second, stack, *names))), False)
             self.assertIs(shows_alike(one, one, stack, Same(table(one, stack, *names))), not names)
         self.assertIs(shows_alike(one, second, stack, Same(table(one, stack, "l"))), False)

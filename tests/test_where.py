@@ -15,7 +15,7 @@ from layerseen.talks import Ended, Over
 from layerseen.values import same as strictly_same
 from layerseen.where import Rule, Where, groups, rules, shown, shows_where, where
 from tests.support import LayerCase, apart, orders, values
-from tests.test_likeness import FEW, OWN, POOL
+from tests.test_likeness import OWN, POOL
 from tests.test_look_likeness import put_in, unfolded
 from tests.test_player_orders import random_program
 from tests.test_talks import both, says
